@@ -1,0 +1,1 @@
+"""Families of even books, whose partitions are never alone."""

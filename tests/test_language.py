@@ -1,0 +1,239 @@
+"""The package keeps to the rules of its language subset that can be read off the code."""
+
+import ast
+import builtins
+import pathlib
+import re
+import unittest
+
+ROOT = pathlib.Path(__file__).resolve().parent.parent
+PACKAGE = ROOT / "neveralone"
+FILES = sorted(PACKAGE.rglob("*.py"))
+TREES = {path: ast.parse(path.read_text()) for path in FILES}
+
+LIBRARY = {"heapq": {"heappush", "heappop", "heapify"}, "math": {"gcd", "lcm", "isqrt", "comb"},
+           "collections": {"defaultdict", "deque"}}
+CALLED = set("""len range enumerate zip min max sum abs sorted reversed int str bool list tuple dict set
+    isinstance ord repr any all divmod iter property staticmethod classmethod
+    ValueError TypeError NotImplemented""".split())
+METHODS = set("""append clear copy count endswith extend find get index insert isalnum isalpha isdigit
+    islower isspace isupper items join keys ljust lower lstrip partition pop remove replace reverse rfind
+    rjust rpartition rsplit rstrip setdefault split splitlines startswith strip update upper values zfill
+    bit_length isascii removeprefix removesuffix isdecimal""".split())
+SPECIAL = set("""init eq repr str len enter exit call iter lt le gt ge ne add sub mul floordiv mod pow and or
+    xor lshift rshift rmul neg pos invert abs bool contains getitem setitem""".split())
+BARRED = set("""type typing typing_extensions enum Enum IntEnum StrEnum Flag IntFlag Generic Protocol ABC
+    ABCMeta namedtuple NamedTuple TypedDict TYPE_CHECKING abstractmethod dataclass overload contextmanager
+    mro elements open input law version_info with_traceback add_note register global eval exec""".split())
+STATEMENTS = (ast.Assign, ast.If, ast.While, ast.For, ast.Return, ast.Break, ast.Continue, ast.Pass,
+              ast.Raise, ast.Expr, ast.FunctionDef, ast.ClassDef, ast.ImportFrom)
+TOP = (ast.ImportFrom, ast.FunctionDef, ast.ClassDef, ast.Assign)
+
+
+def nodes(*kinds):
+    return [(path.name, node) for path, tree in TREES.items() for node in ast.walk(tree)
+            if isinstance(node, kinds)]
+
+
+def own_methods():
+    return {node.name for _, owner in nodes(ast.ClassDef) for node in owner.body
+            if isinstance(node, ast.FunctionDef)}
+
+
+def names_bound(function):
+    """The parameters and the local variables of a function."""
+    found = {part.arg for part in ast.walk(function.args) if isinstance(part, ast.arg)}
+    return found | {part.id for part in ast.walk(function)
+                    if isinstance(part, ast.Name) and isinstance(part.ctx, ast.Store)}
+
+
+class Language(unittest.TestCase):
+    def test_L1_L14_files(self):
+        for path in PACKAGE.rglob("*"):
+            if "__pycache__" not in path.parts:
+                self.assertRegex(path.name, r"^[a-z_][a-z0-9_]*\.py$")
+        for path in FILES:
+            self.assertRegex(path.read_text(), r"\A[ -~\n]*\Z", path)
+
+    def test_L2_L16_imports(self):
+        for path, tree in TREES.items():
+            for node in ast.walk(tree):
+                self.assertNotIsInstance(node, ast.Import)
+                if isinstance(node, ast.ImportFrom):
+                    self.check_import(path, node)
+
+    def check_import(self, path, node):
+        self.assertEqual(node.level, 0)
+        for name in node.names:
+            self.assertIsNone(name.asname)
+            if node.module in LIBRARY:
+                self.assertIn(name.name, LIBRARY[node.module])
+            else:
+                source = ROOT / (node.module.replace(".", "/") + ".py")
+                bound = {part.name for part in TREES[source].body if hasattr(part, "name")}
+                bound |= {part.targets[0].id for part in TREES[source].body if isinstance(part, ast.Assign)}
+                self.assertIn(name.name, bound, path)
+
+    def test_L16_no_circles_of_imports(self):
+        needs = {path.stem: {node.module.split(".")[1] for node in tree.body
+                             if isinstance(node, ast.ImportFrom) and node.module.startswith("neveralone.")}
+                 for path, tree in TREES.items()}
+        done = set()
+        while len(done) < len(needs):
+            ready = {name for name in needs if name not in done and needs[name] <= done}
+            self.assertTrue(ready, needs)
+            done |= ready
+
+    def test_L3_L6_statements(self):
+        for path, tree in TREES.items():
+            for node in tree.body[1:]:
+                self.assertIsInstance(node, TOP, path)
+            self.assertIsNotNone(ast.get_docstring(tree), path)
+            for node in ast.walk(tree):
+                if isinstance(node, ast.stmt):
+                    self.assertIsInstance(node, STATEMENTS, (path, node.lineno))
+
+    def test_L4_decorators(self):
+        for name, node in nodes(ast.FunctionDef):
+            for decorator in node.decorator_list:
+                self.assertIn(ast.unparse(decorator), {"property", "staticmethod", "classmethod"}, name)
+
+    def test_L5_special_methods(self):
+        for name, node in nodes(ast.FunctionDef):
+            if node.name.startswith("__"):
+                self.assertIn(node.name.strip("_"), SPECIAL, name)
+
+    def test_L7_expressions(self):
+        for name, node in nodes(ast.GeneratorExp, ast.Div, ast.AugAssign, ast.Lambda, ast.NamedExpr, ast.Try):
+            self.fail((name, type(node), getattr(node, "lineno", 0)))
+        for name, node in nodes(ast.Constant):
+            self.assertNotIsInstance(node.value, (float, complex), name)
+
+    def test_L8_builtins(self):
+        for name, node in nodes(ast.Name):
+            if hasattr(builtins, node.id):
+                self.assertIn(node.id, CALLED, (name, node.lineno))
+                self.assertIsInstance(node.ctx, ast.Load, (name, node.lineno))
+
+    def test_L10_sizes(self):
+        for path in FILES:
+            lines = path.read_text().split("\n")
+            self.assertLessEqual(len(lines), 399, path)
+            self.assertLessEqual(max(len(line) for line in lines), 120, path)
+        for name, node in nodes(ast.FunctionDef):
+            self.assertLessEqual(node.end_lineno - node.lineno + 1, 40, (name, node.name))
+
+    def test_L12_L15_names(self):
+        for path, tree in TREES.items():
+            taken = {node.name for node in tree.body if isinstance(node, ast.ClassDef)}
+            taken |= {part.name for node in tree.body if isinstance(node, ast.ImportFrom) for part in node.names}
+            for node in ast.walk(tree):
+                if isinstance(node, ast.FunctionDef):
+                    bound = names_bound(node)
+                    self.assertEqual(bound & taken, set(), (path, node.name))
+                    self.assertEqual([name for name in bound if hasattr(builtins, name)], [], (path, node.name))
+
+    def test_L17_words(self):
+        for path, tree in TREES.items():
+            for node in ast.walk(tree):
+                for field in ("id", "attr", "arg", "name"):
+                    self.assertNotIn(getattr(node, field, None), BARRED, path)
+            self.assertNotRegex(path.read_text(), r"\(type\)|Meta|metaclass=|_wall|%[sd]")
+
+    def test_L18_no_name_is_a_method_and_an_attribute(self):
+        stored = {node.attr for _, node in nodes(ast.Attribute) if isinstance(node.ctx, ast.Store)}
+        self.assertEqual(stored & own_methods(), set())
+
+    def test_L24_sets(self):
+        allowed = []
+        for _, node in nodes(ast.Call):
+            if isinstance(node.func, ast.Name) and node.func.id in ("len", "sorted"):
+                allowed.extend(id(part) for part in node.args)
+        for name, node in nodes(ast.Set, ast.SetComp):
+            self.assertIn(id(node), allowed, (name, node.lineno))
+        for name, node in nodes(ast.Call):
+            if isinstance(node.func, ast.Name) and node.func.id == "set":
+                self.assertIn(id(node), allowed, (name, node.lineno))
+
+    def test_L25_methods(self):
+        for name, node in nodes(ast.Call):
+            if isinstance(node.func, ast.Attribute):
+                self.assertIn(node.func.attr, METHODS | own_methods(), (name, node.lineno))
+
+    def test_L27_strings_and_exponents(self):
+        for name, node in nodes(ast.Constant):
+            if isinstance(node.value, str):
+                self.assertNotIn("%", node.value, name)
+        for name, node in nodes(ast.BinOp):
+            if isinstance(node.op, ast.Pow):
+                self.assertIsInstance(node.right, ast.Constant, name)
+                self.assertLessEqual(node.right.value, 64)
+
+    def test_L23_generators_are_iterated_at_once(self):
+        makers = {node.name for _, node in nodes(ast.FunctionDef)
+                  if any(isinstance(part, (ast.Yield, ast.YieldFrom)) for part in ast.walk(node))}
+        at_once = []
+        for _, node in nodes(ast.For, ast.comprehension):
+            at_once.append(id(node.iter))
+        for _, node in nodes(ast.YieldFrom):
+            at_once.append(id(node.value))
+        for _, node in nodes(ast.Call):
+            if isinstance(node.func, ast.Name) and node.func.id in ("list", "tuple", "sum", "sorted"):
+                at_once.extend(id(part) for part in node.args)
+        for name, node in nodes(ast.Call):
+            if isinstance(node.func, ast.Name) and node.func.id in makers:
+                self.assertIn(id(node), at_once, (name, node.lineno))
+                for part in node.args:
+                    self.assertIsInstance(part, (ast.Name, ast.Attribute, ast.Constant), (name, node.lineno))
+        defined = [node.name for _, node in nodes(ast.FunctionDef)]
+        self.assertEqual([name for name in makers if defined.count(name) > 1], [])
+
+
+INTERFACE = """
+errors NeverAloneError BadBook BadChain Mismatch NotEven NotTwoEach BadFamily BadRule NotARoom NotAPartition NoSigns
+ NotSigned TooMany BadText BadPaper BadLabels BadBounds Unbounded Tied BadTable BadOrders BadParties BadWeb BadDeed
+rooms faces(room) without(room,place) exchanged(room,leaving,entering) merged(first,second) complement(places,room)
+ subsets(items,size) order_sign(row) shuffle_sign(first,second) room_fault(places,size,room)
+books Book.__init__(self,places,size,rooms) Book.empty(cls,places,size) Book.__eq__ Book.__len__ Book.__contains__
+ Book.__iter__ Book.__xor__ Book.__mul__ Book.is_even(self) Book.is_two_each(self) Book.odd_faces(self)
+ Book.rooms_at(self,face) Book.boundary(self) Book.link(self,place) face_table(book)
+chains Chain.__init__(self,places,degree,terms) Chain.of_book(book) Chain.point(cls,places,place) Chain.__eq__
+ Chain.__len__ Chain.__iter__ Chain.__getitem__ Chain.__neg__ Chain.__add__ Chain.__sub__ Chain.__rmul__ Chain.__mul__
+ Chain.__pow__ Chain.__lshift__ Chain.__abs__ Chain.scaled(self,number) Chain.boundary(self)
+ Chain.mapped(self,places,images) Chain.odd_book(self)
+families Family.__init__(self,books) Family.__eq__ Family.__len__ Family.__getitem__ Family.__iter__
+ Family.replaced(self,at,book)
+rules Rule.__init__(self,book,order='next') Rule.__call__(self,face,room) Rule.pairs(self)
+ TableRule.__init__(self,book,pairs)
+exact determinant(rows) solve(rows,right) lowest_terms(numbers) sign_of(number) first_sign(numbers)
+"""
+
+
+def defined_in(tree):
+    """What a file defines, with arguments, and with the class in front of a method."""
+    found = {}
+    for node in tree.body:
+        if isinstance(node, ast.Assign):
+            found[node.targets[0].id] = ""
+        elif not isinstance(node, (ast.ImportFrom, ast.Expr)):
+            found[node.name] = signature(node)
+            for part in node.body:
+                if isinstance(part, ast.FunctionDef):
+                    found[f"{node.name}.{part.name}"] = signature(part)
+    return found
+
+
+def signature(node):
+    return f"({ast.unparse(node.args)})".replace(" ", "") if isinstance(node, ast.FunctionDef) else ""
+
+
+class Interface(unittest.TestCase):
+    def test_names_and_arguments_stand_in_their_files(self):
+        for entry in re.split(r"\n(?! )", INTERFACE.strip()):
+            name, *listed = entry.split()
+            found = defined_in(TREES[PACKAGE / f"{name}.py"])
+            for word in listed:
+                plain = word.split("(")[0]
+                self.assertIn(plain, found, name)
+                if "(" in word:
+                    self.assertEqual(plain + found[plain], word, name)
