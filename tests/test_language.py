@@ -206,6 +206,22 @@ families Family.__init__(self,books) Family.__eq__ Family.__len__ Family.__getit
 rules Rule.__init__(self,book,order='next') Rule.__call__(self,face,room) Rule.pairs(self)
  TableRule.__init__(self,book,pairs)
 exact determinant(rows) solve(rows,right) lowest_terms(numbers) sign_of(number) first_sign(numbers)
+notation format_book(book) format_chain(chain) format_family(family) parse_book(text) parse_chain(text)
+ parse_family(text) format_row(row) parse_row(line)
+faults book_faults(places,size,rooms) odd_paper(book) family_faults(books)
+naming Renaming.__init__(self,images) Renaming.__eq__ Renaming.__len__ Renaming.__call__(self,place)
+ Renaming.__invert__ Renaming.__mul__ Renaming.__pow__ Renaming.powered(self,k) inverse_images(images)
+ renamed_room(room,images) renamed_row(row,images) renamed(book,images) renamed_chain(chain,images)
+ renamed_family(family,images) renaming_between(first,second) symmetries(book)
+makers all_rooms(places,size) boundary_book(places,corners) ring_book(places,size) label_book(labels,kinds)
+ cross_book(places,pairs) join(*books) total(*books)
+filling filling(book,apex) filled(places,size,apex,rooms) book_number(book,apex=0)
+ numbered_book(places,size,number,apex=0) even_book_count(places,size) walk_even_books(places,size,*,apex=0)
+spans combination(target,books) rank_of(books)
+partitions MOST_LISTED list_partitions(family,/,*,most=MOST_LISTED) walk_partitions(family) count_partitions(family)
+ partitions_with(family,at,room) partition_fault(family,row) check_partition(family,row)
+ledgers ledger(family) check_ledger(family,told) parity(family) counts_by_place(family,place)
+ join_families(first,second)
 """
 
 
