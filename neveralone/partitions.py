@@ -35,12 +35,20 @@ def partitions_with(family, at, room):
     return list(walk_rows(family.places, lists))
 
 
-def partition_fault(family, row):
-    """Return the first fault of a row as a partition, or an empty string."""
+def entry_fault(family, row):
+    """Return "count" or "room" if the row does not have one room of each book, or an empty string."""
     if len(row) != len(family):
         return "count"
     if any([room not in book for room, book in zip(row, family.books)]):
         return "room"
+    return ""
+
+
+def partition_fault(family, row):
+    """Return the first fault of a row as a partition, or an empty string."""
+    fault = entry_fault(family, row)
+    if fault != "":
+        return fault
     # The sizes add up to the number of places, so a place in two rooms leaves another one out.
     if sorted([place for room in row for place in room]) != list(range(family.places)):
         return "place"

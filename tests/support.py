@@ -7,6 +7,7 @@ import unittest
 from neveralone.books import Book
 from neveralone.errors import NeverAloneError
 from neveralone.families import Family
+from neveralone.rules import Rule
 
 
 def rooms_over(places, size):
@@ -61,6 +62,84 @@ def partitions_of(family):
     everything = list(range(family.places))
     rows = itertools.product(*[book.rooms for book in family.books])
     return [row for row in rows if sorted(itertools.chain(*row)) == everything]
+
+
+def ones(many):
+    """The family of so many books of all rooms of size 1; its partitions are all orders of the places."""
+    return Family([Book(many, 1, [(place,) for place in range(many)])] * many)
+
+
+def squares():
+    """The family that DOC.md uses as its example."""
+    return Family([square_book(), square_book()])
+
+
+def near_of(family, target):
+    """All near partitions for a target, found by trying each choice of rooms."""
+    wanted = [place for place in range(family.places) if place != target]
+    rows = itertools.product(*[book.rooms for book in family.books])
+    return [row for row in rows if sorted(set(itertools.chain(*row))) == wanted]
+
+
+def lots_of(book):
+    """All lots of a book, found by trying each set of rooms."""
+    everything = list(range(book.places))
+    rows = itertools.combinations(book.rooms, book.places // book.size)
+    return [row for row in rows if sorted(itertools.chain(*row)) == everything]
+
+
+def partner_of(book, order, face, room):
+    """The partner of a room at a face as an order says, found by counting."""
+    rooms = [other for other in book.rooms if set(face) < set(other)]
+    at, many = rooms.index(room), len(rooms)
+    if order == "next":
+        return rooms[at + 1 if at % 2 == 0 else at - 1]
+    if order == "ends":
+        return rooms[many - 1 - at]
+    return rooms[(at + many // 2) % many]
+
+
+def plain_path(family, row, target, partner):
+    """The points of a path; partner(at, face, room) tells the partners in the book with the index."""
+    points, came, leaving = [tuple(row)], None, target
+    while len(points) == 1 or leaving != target:
+        row = points[-1]
+        at = next(at for at, room in enumerate(row) if leaving in room and at != came)
+        face = tuple(place for place in row[at] if place != leaving)
+        room = partner(at, face, row[at])
+        leaving, = set(room) - set(face)
+        came = at
+        points.append(row[:at] + (room,) + row[at + 1:])
+    return points
+
+
+def order_path(family, row, target, order="next"):
+    """The points of a path by one order at all books."""
+    return plain_path(family, row, target, lambda at, face, room: partner_of(family[at], order, face, room))
+
+
+def steps_between(points):
+    """The exchanges that lead along some points."""
+    steps = []
+    for row, after in zip(points, points[1:]):
+        at, = [at for at in range(len(row)) if row[at] != after[at]]
+        left, = set(row[at]) - set(after[at])
+        came, = set(after[at]) - set(row[at])
+        steps.append((at, left, came))
+    return steps
+
+
+def crossed_plane():
+    """The ten triangles of the projective plane with six places: two-each, but without signs."""
+    return Book(6, 3, [(0, 1, 2), (0, 2, 3), (0, 3, 4), (0, 4, 5), (0, 1, 5), (1, 2, 4), (2, 3, 5), (1, 3, 4),
+                       (2, 4, 5), (1, 3, 5)])
+
+
+class Endless(Rule):
+    """No proper rule: over 4 places of rooms of size 1 it leads around the places 1, 2 and 3 for ever."""
+
+    def __call__(self, face, room):
+        return ((1, 2, 3, 1)[room[0]],)
 
 
 class Case(unittest.TestCase):

@@ -222,6 +222,19 @@ partitions MOST_LISTED list_partitions(family,/,*,most=MOST_LISTED) walk_partiti
  partitions_with(family,at,room) partition_fault(family,row) check_partition(family,row)
 ledgers ledger(family) check_ledger(family,told) parity(family) counts_by_place(family,place)
  join_families(first,second)
+lots lot_family(book) list_lots(book,/,*,most=MOST_LISTED) count_lots(book) lot_fault(book,lot) check_lot(book,lot)
+points MOST_NEAR double_place(row) near_fault(family,row,target) tied_points(family,row,target)
+ list_near(family,target,/,*,most=MOST_NEAR)
+paths MOST_EXCHANGES walk_path(family,row,target,rules=None,*,most=MOST_EXCHANGES)
+ mate(family,row,target,rules=None,*,most=MOST_EXCHANGES)
+ exchanges(family,row,target,rules=None,*,most=MOST_EXCHANGES) mate_pairs(family,target,rules=None)
+lotpaths lot_mate(book,lot,target,order='next') lot_pairs(book,target,order='next')
+papers PathPaper.__init__(self,family,target,start,steps) PathPaper.end(self) PathPaper.__eq__ PathPaper.__len__
+ PathPaper.__iter__ paper_of(family,row,target,rules=None) reversed_paper(paper)
+matewebs mate_table(family,rules=None) mate_pieces(family,rules=None) another_partition(family,row)
+ rule_rings(family,target,first,second)
+signs pieces(book) bond(first,second) find_signs(book) signed_book(book) ring_turn(book,ring) is_signed(chain)
+made_signs boundary_chain(places,corners) ring_chain(places,size) label_chain(labels,kinds) cross_chain(places,pairs)
 """
 
 
