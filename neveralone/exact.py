@@ -49,6 +49,15 @@ def with_column(rows, at, right):
     return [list(row[:at]) + [number] + list(row[at + 1:]) for row, number in zip(rows, right)]
 
 
+def normal_of(rows, many):
+    """Return a row of `many` integers with the growth 0 along each of `many` - 1 rows.
+
+    The integers are the minors of the rows with signs in turn, so all of them are 0 if the rows are dependent.
+    """
+    minors = [determinant([row[:at] + row[at + 1:] for row in rows]) for at in range(many)]
+    return tuple([-minor if at & 1 else minor for at, minor in enumerate(minors)])
+
+
 def lowest_terms(numbers):
     """Return the tuple of the integers divided by their greatest common divisor."""
     common = 0

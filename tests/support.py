@@ -1,10 +1,12 @@
 """What several tests share: plain counting without the program, and checks of errors."""
 
 import itertools
+import math
 import random
 import unittest
 
 from neveralone.books import Book
+from neveralone.chains import Chain
 from neveralone.errors import NeverAloneError
 from neveralone.families import Family
 from neveralone.rules import Rule
@@ -140,6 +142,34 @@ class Endless(Rule):
 
     def __call__(self, face, room):
         return ((1, 2, 3, 1)[room[0]],)
+
+
+def some_signed(seed, places, degree):
+    """A signed book with rooms: the boundary of some larger rooms with signs."""
+    chance = random.Random(f"{seed} {places} {degree}")
+    while True:
+        rooms = chance.sample(rooms_over(places, degree + 1), chance.randint(1, min(6, math.comb(places, degree + 1))))
+        terms = {}
+        for room in rooms:
+            turn = chance.choice((1, -1))
+            for at in range(degree + 1):
+                face = room[:at] + room[at + 1:]
+                terms[face] = terms.get(face, 0) + turn * (-1) ** at
+        if set(map(abs, terms.values())) <= {0, 1} and any(terms.values()):
+            return Chain(places, degree, list(terms.items()))
+
+
+def all_signed(sizes, seeds):
+    """Lists of signed books whose odd books are families."""
+    return [[some_signed(f"{seed} {at}", sum(sizes), size) for at, size in enumerate(sizes)] for seed in seeds]
+
+
+def sign_in(chains, row):
+    """The sign of a partition, taken from the terms of the chains."""
+    product = sign([place for room in row for place in room])
+    for chain, room in zip(chains, row):
+        product *= dict(chain.terms)[room]
+    return product
 
 
 class Case(unittest.TestCase):

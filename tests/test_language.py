@@ -11,7 +11,7 @@ PACKAGE = ROOT / "neveralone"
 FILES = sorted(PACKAGE.rglob("*.py"))
 TREES = {path: ast.parse(path.read_text()) for path in FILES}
 
-LIBRARY = {"heapq": {"heappush", "heappop", "heapify"}, "math": {"gcd", "lcm", "isqrt", "comb"},
+LIBRARY = {"heapq": {"heappush", "heappop", "heapify"}, "math": {"gcd", "lcm", "isqrt", "comb", "factorial"},
            "collections": {"defaultdict", "deque"}}
 CALLED = set("""len range enumerate zip min max sum abs sorted reversed int str bool list tuple dict set
     isinstance ord repr any all divmod iter property staticmethod classmethod
@@ -235,6 +235,25 @@ matewebs mate_table(family,rules=None) mate_pieces(family,rules=None) another_pa
  rule_rings(family,target,first,second)
 signs pieces(book) bond(first,second) find_signs(book) signed_book(book) ring_turn(book,ring) is_signed(chain)
 made_signs boundary_chain(places,corners) ring_chain(places,size) label_chain(labels,kinds) cross_chain(places,pairs)
+balance signed_family(chains) partition_sign(chains,row) balance(chains) signed_count(chains) lot_sign(chain,lot)
+ lot_balance(chain)
+senses sense_at(chain,face,room) SenseRule.__init__(self,chain) reading_sign(chains,row,target,came)
+ walk_signs(chains,row,target) unlike_pairs(chains,target)
+labels full_rooms(book,labels) label_family(book,labels) signed_full_count(chain,labels) closed_book(book)
+ full_faces(book,labels,missing) another_full(book,labels,room,target,*,order='next')
+ rim_mate(book,labels,start,*,missing)
+strings runs(places,room) string_names(places,room) string_room(places,names) label_web(labels)
+ web_pairings(ties,kinds) full_strings(labels,kinds) another_string(labels,kinds,room,target)
+ another_pairing(labels,kinds,names,target)
+bounds Bounds.__init__(self,unknowns,rows) Bounds.__len__ Bounds.__iter__ Bounds.__contains__ Bounds.is_empty(self)
+ Bounds.tight_rows(self,numerators,denominator=1) Bounds.corner_rooms(self)
+corners corner_book(bounds) corner_chain(bounds) corner_point(bounds,room) edge_direction(bounds,room,leaving)
+ other_end(bounds,room,leaving) goal_factors(bounds,room,goal) climb(bounds,room,goal) contradiction(bounds)
+ content(bounds)
+tables check_tables(first,second) row_bounds(first,second) column_bounds(first,second) table_family(first,second)
+ table_chains(first,second) start_row(first,second)
+rests is_rest(first,second,weights,others) rest_of_row(first,second,row) row_of_rest(first,second,rest)
+ list_rests(first,second) rests_by_supports(first,second)
 """
 
 

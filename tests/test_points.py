@@ -139,6 +139,14 @@ class NearLists(Case):
         self.assertFails(TooMany("near partitions", 141119), list_near, ones(8), 5, most=141119)
         self.assertFails(TooMany("near partitions", 20000), list_near, ones(12), 0)
 
+    def test_51_most_for_any_number_of_books(self):
+        for sizes in SHAPES:
+            for family in all_families(sizes, range(3)):
+                many = len(near_of(family, 0))
+                if many > 0:
+                    self.assertEqual(len(list_near(family, 0, most=many)), many)
+                    self.assertFails(TooMany("near partitions", many - 1), list_near, family, 0, most=many - 1)
+
     def test_48_a_target_outside_comes_first(self):
         for target in OUTSIDE:
             self.assertFails(Mismatch("target"), list_near, squares(), target)
