@@ -21,12 +21,8 @@ def list_lots(book, /, *, most=MOST_LISTED):
     masked = [(room, mask_of(room), places_below(room)) for room in book.rooms]
     grown = [((), 0)]
     for table in tables[1:]:
-        longer = []
-        for row, used in grown:
-            for room, mask, below in masked:
-                if may_follow(used, mask, below) and (used | mask) in table:
-                    longer.append((row + (room,), used | mask))
-        grown = longer
+        grown = [(row + (room,), used | mask) for row, used in grown for room, mask, below in masked
+                 if may_follow(used, mask, below) and (used | mask) in table]
     return [row for row, _ in grown]
 
 
@@ -73,11 +69,16 @@ def lot_tables(book):
     masked = [(mask_of(room), places_below(room)) for room in book.rooms]
     tables = [{(1 << book.places) - 1: 1}]
     for _ in family.books:
-        table = {}
-        for used in tables[-1]:
-            for mask, below in masked:
-                left = used ^ mask
-                if used & mask == mask and may_follow(left, mask, below):
-                    table[left] = table.get(left, 0) + tables[-1][used]
-        tables.append(table)
+        tables.append(ways_before(tables[-1], masked))
     return tables[::-1]
+
+
+def ways_before(after, masked):
+    """Return the numbers of ways to go on, one room earlier than the dict `after` tells them."""
+    ways = {}
+    for used in after:
+        for mask, below in masked:
+            left = used ^ mask
+            if used & mask == mask and may_follow(left, mask, below):
+                ways[left] = ways.get(left, 0) + after[used]
+    return ways

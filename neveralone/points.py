@@ -79,14 +79,19 @@ def near_tables(lists, wanted, spare):
     """Return for each index the dict from the used places to the number of ways to go on from there."""
     tables = [{wanted | spare: 1}]
     for rooms in lists[::-1]:
-        table = {}
-        for room in rooms:
-            mask = mask_of(room)
-            for used in tables[-1]:
-                for left in places_before(used, room, mask, spare):
-                    table[left] = table.get(left, 0) + tables[-1][used]
-        tables.append(table)
+        tables.append(ways_before(tables[-1], rooms, spare))
     return tables[::-1]
+
+
+def ways_before(after, rooms, spare):
+    """Return the numbers of ways to go on, one room earlier than the dict `after` tells them."""
+    ways = {}
+    for room in rooms:
+        mask = mask_of(room)
+        for used in after:
+            for left in places_before(used, room, mask, spare):
+                ways[left] = ways.get(left, 0) + after[used]
+    return ways
 
 
 def places_before(used, room, mask, spare):

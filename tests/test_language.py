@@ -189,6 +189,75 @@ class Language(unittest.TestCase):
         self.assertEqual([name for name in makers if defined.count(name) > 1], [])
 
 
+    def test_L23_no_loop_changes_what_it_walks(self):
+        changing = """append extend insert pop remove clear setdefault update sort reverse""".split()
+        for name, function in nodes(ast.FunctionDef):
+            joined = names_in_one(function)
+            for loop in ast.walk(function):
+                if isinstance(loop, ast.For):
+                    walked = {joined.get(part, part) for part in roots(loop.iter)}
+                    changed = {part for stated in loop.body + loop.orelse for node in ast.walk(stated)
+                               for part in changed_by(node, changing)}
+                    changed = {joined.get(part, part) for part in changed}
+                    self.assertEqual(walked & changed, set(), (name, function.name, loop.lineno))
+
+    def test_L23_the_check_sees_other_names(self):
+        seen = []
+        for text in ("for x in xs: xs.append(x)", "ys = xs\nfor x in xs: ys[x] = 1", "ts.append(t)\nfor x in ts[-1]: t[x] = 1",
+                     "zs = xs if c else ys\nfor x in enumerate(zs): ys.pop()", "for x in self.xs: self.xs.clear()",
+                     "while c:\n  new = []\n  for x in old: new.append(x)\n  old = new"):
+            function = ast.parse("def f():\n" + "".join(f"  {line}\n" for line in text.split("\n"))).body[0]
+            joined = names_in_one(function)
+            loop, = [node for node in ast.walk(function) if isinstance(node, ast.For)]
+            changed = [part for node in ast.walk(loop) for part in changed_by(node, ["append", "pop", "clear"])]
+            seen.append({joined.get(part, part) for part in roots(loop.iter)}
+                        & {joined.get(part, part) for part in changed} != set())
+        self.assertEqual(seen, [True] * 6)
+
+
+def roots(node):
+    """The names and attributes that an expression is taken from without a new list, also by items and choices."""
+    if isinstance(node, ast.Name):
+        return [node.id]
+    if isinstance(node, ast.Attribute):
+        return [f".{node.attr}"]
+    if isinstance(node, ast.Subscript):
+        return [] if isinstance(node.slice, ast.Slice) else roots(node.value)
+    if isinstance(node, ast.IfExp):
+        return roots(node.body) + roots(node.orelse)
+    if isinstance(node, ast.BoolOp):
+        return [name for value in node.values for name in roots(value)]
+    if isinstance(node, ast.Call) and isinstance(node.func, ast.Attribute) and node.func.attr in ("items", "values", "keys"):
+        return roots(node.func.value)
+    if isinstance(node, ast.Call) and isinstance(node.func, ast.Name) and node.func.id in ("enumerate", "zip", "reversed"):
+        return [name for value in node.args for name in roots(value)]
+    return []
+
+
+def changed_by(node, changing):
+    """The names and attributes that a statement or a call changes."""
+    if isinstance(node, ast.Call) and isinstance(node.func, ast.Attribute) and node.func.attr in changing:
+        return roots(node.func.value)
+    if isinstance(node, ast.Subscript) and not isinstance(node.ctx, ast.Load):
+        return roots(node.value)
+    return []
+
+
+def names_in_one(function):
+    """For each name of a function the one that stands for all names that may be the same list, or hold it."""
+    groups = []
+    for node in ast.walk(function):
+        found = []
+        if isinstance(node, ast.Assign) and not isinstance(node.targets[0], ast.Tuple):
+            found = roots(node.targets[0]) + roots(node.value)
+        if isinstance(node, ast.Call) and isinstance(node.func, ast.Attribute) and node.func.attr == "append":
+            found = roots(node.func.value) + roots(node.args[0])
+        if len(found) > 1:
+            met = [group for group in groups if group & set(found)]
+            groups = [group for group in groups if group not in met] + [set(found).union(*met)]
+    return {name: min(group) for group in groups for name in group}
+
+
 INTERFACE = """
 errors NeverAloneError BadBook BadChain Mismatch NotEven NotTwoEach BadFamily BadRule NotARoom NotAPartition NoSigns
  NotSigned TooMany BadText BadPaper BadLabels BadBounds Unbounded Tied BadTable BadOrders BadParties BadWeb BadDeed
