@@ -1,13 +1,12 @@
 """The rests of two tables: pairs of weights in which each side answers the other one best (points 95, 98, 99)."""
 
 from neveralone.bounds import growth
-from neveralone.corners import corner_book, corner_point
+from neveralone.corners import corner_point
 from neveralone.errors import NotAPartition
 from neveralone.exact import lowest_terms, solve
-from neveralone.families import Family
 from neveralone.partitions import check_partition, list_partitions
 from neveralone.rooms import subsets
-from neveralone.tables import both_bounds, check_tables, start_row
+from neveralone.tables import both_bounds, check_tables, corner_family, start_row
 
 
 def best_rows(first, others):
@@ -62,7 +61,7 @@ def rest_at(bounds, row):
 def rest_of_row(first, second, row):
     """Return the rest of a partition of the table family."""
     bounds = both_bounds(first, second)
-    checked = check_partition(Family([corner_book(side) for side in bounds]), row)
+    checked = check_partition(corner_family(bounds), row)
     if checked == start_row(first, second):
         raise NotAPartition("start")
     return rest_at(bounds, checked)
@@ -71,6 +70,11 @@ def rest_of_row(first, second, row):
 def row_of_rest(first, second, rest):
     """Return the partition of a rest."""
     both_bounds(first, second)
+    return row_of_answers(first, second, rest)
+
+
+def row_of_answers(first, second, rest):
+    """Return the partition of a rest of tables without a tie."""
     weights, others = rest
     if not is_rest(first, second, weights, others):
         raise NotAPartition("rest")
@@ -84,7 +88,7 @@ def list_rests(first, second):
     """Return the ascending list of all rests in lowest terms."""
     bounds = both_bounds(first, second)
     start = start_row(first, second)
-    rows = list_partitions(Family([corner_book(side) for side in bounds]))
+    rows = list_partitions(corner_family(bounds))
     return sorted([rest_at(bounds, row) for row in rows if row != start])
 
 

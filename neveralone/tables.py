@@ -57,9 +57,14 @@ def both_bounds(first, second):
     return [row_bounds(first, second), column_bounds(first, second)]
 
 
+def corner_family(both):
+    """Return the family of the corner books of the row bounds and the column bounds."""
+    return Family([corner_book(bounds) for bounds in both])
+
+
 def table_family(first, second):
     """Return the family of the corner books of both bounds."""
-    return Family([corner_book(bounds) for bounds in both_bounds(first, second)])
+    return corner_family(both_bounds(first, second))
 
 
 def table_chains(first, second):

@@ -172,6 +172,16 @@ def sign_in(chains, row):
     return product
 
 
+def plain_determinant(rows):
+    """The determinant as the sum over all orders of the columns."""
+    orders = itertools.permutations(range(len(rows)))
+    return sum(sign(order) * math.prod(rows[at][column] for at, column in enumerate(order)) for order in orders)
+
+
+def sign_of_number(number):
+    return (number > 0) - (number < 0)
+
+
 class Case(unittest.TestCase):
     def assertFails(self, error, call, *given, **named):
         """The call raises an error of exactly this class with exactly these fields."""

@@ -323,6 +323,22 @@ tables check_tables(first,second) row_bounds(first,second) column_bounds(first,s
  table_chains(first,second) start_row(first,second)
 rests is_rest(first,second,weights,others) rest_of_row(first,second,row) row_of_rest(first,second,rest)
  list_rests(first,second) rests_by_supports(first,second)
+rest_paths rest_from_start(first,second,target=0) rest_mate(first,second,rest,target=0) rest_sign(first,second,rest)
+ fair_rest(table)
+orders check_orders(orders) full_orders(orders) least_place(orders,at,room) beaters(orders,room) unbeaten_rooms(orders)
+ unbeaten_book(orders) unbeaten_chain(orders) other_unbeaten(orders,room,leaving)
+bases check_matrix(matrix) is_base(matrix,room) base_solution(matrix,room) bases_book(matrix) bases_chain(matrix)
+ other_base(matrix,room,entering)
+shares base_family(orders,matrix) unbeaten_bases(orders,matrix) base_sign(orders,matrix,room)
+ base_path(orders,matrix,target) check_parties(persons,parties,wishes) party_orders(persons,parties,wishes)
+ party_matrix(persons,parties) share_family(persons,parties,wishes) share_start(persons,parties)
+ share_path(persons,parties,wishes,target) stable_shares(persons,parties,wishes,target=0)
+ blocking_parties(persons,parties,wishes,numerators,denominator)
+ is_stable(persons,parties,wishes,numerators,denominator)
+webs web_degrees(web) closed_walks(web) arrows(web) ring_parts(web) closed_ring(places,order)
+pairings second_pairing(web,pairing,target,*,order='next') odd_pieces(web,room) find_pairing(web)
+trees tree_book(web) tree_chain(web)
+skins euler_number(book) is_surface(book) triangle_lots(book) second_triangles(book,lot,target,*,order='next')
 """
 
 
