@@ -33,7 +33,11 @@ def count_lots(book):
 
 def lot_fault(book, lot):
     """Return the first fault of a tuple of rooms as a lot, or an empty string."""
-    family = lot_family(book)
+    return lot_fault_in(lot_family(book), lot)
+
+
+def lot_fault_in(family, lot):
+    """Return the first fault of a tuple of rooms as a lot of the book whose copies make the family."""
     fault = entry_fault(family, lot)
     if fault != "":
         return fault

@@ -26,7 +26,7 @@ BARRED = set("""type typing typing_extensions enum Enum IntEnum StrEnum Flag Int
     ABCMeta namedtuple NamedTuple TypedDict TYPE_CHECKING abstractmethod dataclass overload contextmanager
     mro elements open input law version_info with_traceback add_note register global eval exec""".split())
 STATEMENTS = (ast.Assign, ast.If, ast.While, ast.For, ast.Return, ast.Break, ast.Continue, ast.Pass,
-              ast.Raise, ast.Expr, ast.FunctionDef, ast.ClassDef, ast.ImportFrom)
+              ast.Raise, ast.Expr, ast.FunctionDef, ast.ClassDef, ast.ImportFrom, ast.Try)
 TOP = (ast.ImportFrom, ast.FunctionDef, ast.ClassDef, ast.Assign)
 
 
@@ -104,7 +104,7 @@ class Language(unittest.TestCase):
                 self.assertIn(node.name.strip("_"), SPECIAL, name)
 
     def test_L7_expressions(self):
-        for name, node in nodes(ast.GeneratorExp, ast.Div, ast.AugAssign, ast.Lambda, ast.NamedExpr, ast.Try):
+        for name, node in nodes(ast.GeneratorExp, ast.Div, ast.AugAssign, ast.Lambda, ast.NamedExpr):
             self.fail((name, type(node), getattr(node, "lineno", 0)))
         for name, node in nodes(ast.Constant):
             self.assertNotIsInstance(node.value, (float, complex), name)
@@ -168,6 +168,16 @@ class Language(unittest.TestCase):
             if isinstance(node.op, ast.Pow):
                 self.assertIsInstance(node.right, ast.Constant, name)
                 self.assertLessEqual(node.right.value, 64)
+
+    def test_L19_own_errors_alone_are_caught_and_made_on_the_spot(self):
+        own = {node.name for node in TREES[PACKAGE / "errors.py"].body if isinstance(node, ast.ClassDef)}
+        for name, node in nodes(ast.Try):
+            self.assertEqual((node.finalbody, node.orelse), ([], []), name)
+            for handler in node.handlers:
+                self.assertIn(ast.unparse(handler.type), own, (name, node.lineno))
+        for name, node in nodes(ast.Raise):
+            self.assertIsNone(node.cause, name)
+            self.assertIn(ast.unparse(node.exc.func), own, (name, node.lineno))
 
     def test_L23_generators_are_iterated_at_once(self):
         makers = {node.name for _, node in nodes(ast.FunctionDef)
@@ -339,6 +349,22 @@ webs web_degrees(web) closed_walks(web) arrows(web) ring_parts(web) closed_ring(
 pairings second_pairing(web,pairing,target,*,order='next') odd_pieces(web,room) find_pairing(web)
 trees tree_book(web) tree_chain(web)
 skins euler_number(book) is_surface(book) triangle_lots(book) second_triangles(book,lot,target,*,order='next')
+mixed sizes_of(family) mixed_counts(family) equal_books(family) sorted_row(family,row) list_sorted(family)
+ sorted_mate(family,row,target,*,order='next')
+worlds World.__init__(self,family,start=None) World.thing_of(self,row) World.row_of(self,thing) World.things(self)
+ World.number(self) World.other(self,thing,target) World.from_start(self,target) World.matched(self,target)
+label_worlds LabelWorld.__init__(self,book,labels) LabelWorld.thing_of(self,row) LabelWorld.row_of(self,thing)
+ StringWorld.__init__(self,labels,kinds) StringWorld.thing_of(self,row) StringWorld.row_of(self,thing)
+table_worlds TableWorld.__init__(self,first,second) TableWorld.thing_of(self,row) TableWorld.row_of(self,thing)
+base_worlds BaseWorld.__init__(self,orders,matrix) BaseWorld.thing_of(self,row) BaseWorld.row_of(self,thing)
+ ShareWorld.__init__(self,persons,parties,wishes) ShareWorld.shares_of(self,thing)
+lot_worlds LotWorld.__init__(self,book,order='next') LotWorld.thing_of(self,row) LotWorld.row_of(self,thing)
+ LotWorld.things(self) LotWorld.number(self) LotWorld.other(self,thing,target)
+deed_texts format_deed(deed) parse_deed(line)
+desk Desk.__init__(self,places,sizes) Desk.read(cls,text) Desk.__len__ Desk.__iter__ Desk.__getitem__(self,at)
+ Desk.__setitem__(self,at,worth) Desk.current(self) Desk.journal(self) Desk.number(self) Desk.do(self,deed)
+ Desk.do_all(self,*deeds) Desk.undo(self) Desk.redo(self) Desk.papers(self) Desk.standing(self) Desk.text(self)
+ Desk.report(self)
 """
 
 
