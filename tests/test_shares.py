@@ -259,6 +259,11 @@ class Parties(Case):
                 self.assertEqual(blocking_parties(*given, numerators, denominator), [])
             self.assertEqual(stable_shares(*given), stable_shares(*given, target=0))
 
+    def test_115_the_target_is_0_if_none_is_passed(self):
+        given = (3, [(1, 2), (0, 1), (0, 1, 2), (0, 2)], [[2, 1, 3], [1, 0, 2], [0, 3, 2]])
+        self.assertEqual(stable_shares(*given), ((0, 0, 1, 0), 1))
+        self.assertEqual([stable_shares(*given, target)[0].index(1) for target in range(7)], [2, 3, 2, 3, 3, 2, 2])
+
     def test_115_each_unbeaten_base_gives_stable_shares(self):
         for given in all_parties(seeds=range(1)):
             persons, parties, wishes = given
@@ -337,10 +342,11 @@ class Stable(Case):
         self.assertEqual(blocking_parties(*pair, (1, 0, 1), 1), [])
         self.assertIs(is_stable(*pair, (1, 0, 1), 1), False)
         self.assertEqual(blocking_parties(*pair, (1, 0, 0), 1), [2])
-        chain = (2, [(0, 1), (0,), (1,)], [[1, 0], [2, 0]])
-        self.assertEqual(blocking_parties(*chain, (1, 0, 0), 1), [])
-        self.assertIs(is_stable(*chain, (1, -1, 0), 1), False)
-        self.assertIs(is_stable(*chain, (1, 0, 0), 1), True)
+        both = (2, [(0, 1), (0, 1)], [[0, 1], [1, 0]])
+        self.assertEqual(blocking_parties(*both, (-1, 2), 1), [])
+        self.assertIs(is_stable(*both, (-1, 2), 1), False)
+        self.assertEqual(blocking_parties(*both, (0, 1), 1), [])
+        self.assertIs(is_stable(*both, (0, 1), 1), True)
 
     def test_114_too_few_and_too_many_numerators_and_denominators_below_1(self):
         for call in (blocking_parties, is_stable):
